@@ -1,0 +1,1 @@
+"""Chairvote: several hands keep one row of deeds by choosing a chair."""
