@@ -222,8 +222,8 @@ def package_files():
 class LanguageTest(unittest.TestCase):
     def test_the_package_keeps_to_the_rules(self):
         files = package_files()
-        self.assertIn("__init__.py", files)
-        self.assertIn("rows.py", files)
+        for name in ("__init__", "errors", "rolls", "rows", "shelves", "books", "seats", "hands"):
+            self.assertIn(name + ".py", files)
         self.assertEqual(problems(files), [])
 
     def test_no_folder_lies_in_the_package_but_those_with_an_init(self):
