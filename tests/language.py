@@ -521,8 +521,8 @@ def problems(files, package="chairvote"):
     found = [(rule, name, line, words) for name, rule, line, words in look_at_files(files)]
     sources = [Source(name, text) for name, text in sorted(files.items()) if name.endswith(".py")]
     looks = (
-        look_at_text, look_at_top, look_at_tables, look_at_defs, look_at_classes, look_at_statements, look_at_expressions,
-        look_at_names, look_at_own_names_of_python, look_at_walks, look_at_sets,
+        look_at_text, look_at_top, look_at_tables, look_at_defs, look_at_classes, look_at_statements,
+        look_at_expressions, look_at_names, look_at_own_names_of_python, look_at_walks, look_at_sets,
     )
     for source in sources:
         for look in looks:

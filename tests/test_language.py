@@ -222,7 +222,10 @@ def package_files():
 class LanguageTest(unittest.TestCase):
     def test_the_package_keeps_to_the_rules(self):
         files = package_files()
-        for name in ("__init__", "errors", "rolls", "rows", "shelves", "books", "seats", "hands"):
+        for name in (
+            "__init__", "errors", "rolls", "rows", "shelves", "books", "seats", "hands", "halls", "rules", "lists",
+            "ballots",
+        ):
             self.assertIn(name + ".py", files)
         self.assertEqual(problems(files), [])
 

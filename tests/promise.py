@@ -1,0 +1,110 @@
+"""What the whole promises of a hall, held deed by deed against its papers, views and books alone."""
+
+from tests.halldeeds import row_of
+from tests.witness import Witness, end_of
+
+
+def replayed(entries):
+    """The shelf, told, to which the asks of these entries lead, each of them done once."""
+    values, answers = {}, {}
+    for term, what in entries:
+        if what[0] == "ask" and what[1:3] not in answers:
+            order, before = what[3], values.get(what[3][1], 0)
+            after, answer = {
+                "put": (order[2], before),
+                "add": (before + order[2], before + order[2]),
+                "swap": (order[-1], 1) if before == order[2] else (before, 0),
+            }[order[0]]
+            values[order[1]], answers[what[1:3]] = after, answer
+    told = tuple(sorted((name, value) for name, value in values.items() if value != 0))
+    return told, tuple(sorted(ask + (answer,) for ask, answer in answers.items()))
+
+
+class Promise:
+    """For each place that a chair settled, its entry and the least term whose chair settled it; and what is out."""
+
+    def __init__(self, test, hall, number, S):
+        self.test = test
+        self.hall = hall
+        self.number = number
+        self.witness = Witness(S)
+        self.chairs = {}
+        self.settled = {}
+        self.answered = {}
+        self.looks = {}
+        self.out = 0
+
+    def hold(self):
+        """Called behind each deed, so that chairs are met while they keep what they settled."""
+        self.read_papers()
+        views = [self.hall.view(h) for h in range(self.number)]
+        rows = [row_of(self.hall, h) for h in range(self.number)]
+        self.hold_chairs(views, rows)
+        self.hold_shelves(views)
+        self.hold_rows(rows)
+        self.hold_told(views, rows)
+
+    def read_papers(self):
+        papers = self.hall.papers()
+        test = self.test
+        test.assertEqual(papers[:len(self.witness.taken)], self.witness.taken)
+        for paper in papers[len(self.witness.taken):]:
+            self.witness.take(paper)
+            if paper[0] == "chair":
+                test.assertNotIn(paper[2], self.chairs)
+                self.chairs[paper[2]] = paper[1]
+            if paper[0] == "answer":
+                test.assertEqual(self.answered.setdefault(paper[2:4], paper[5]), paper[5])
+                self.out = max(self.out, paper[4])
+            if paper[0] == "look":
+                self.looks[paper[1:5]] = self.out
+            if paper[0] == "seen":
+                test.assertGreaterEqual(paper[5], self.looks.pop(paper[1:5]))
+                self.out = max(self.out, paper[5])
+        test.assertEqual(self.hall.answers(), [paper for paper in papers if paper[0] in ("answer", "seen")])
+
+    def hold_chairs(self, views, rows):
+        for h, view in enumerate(views):
+            if view[0] == "chairs":
+                self.test.assertEqual(self.chairs[view[1]], h)
+                self.note_settled(view, rows[h])
+        for h, view in enumerate(views):
+            if view[0] == "chairs":
+                self.hold_settled(view[1], rows[h])
+
+    def note_settled(self, view, row):
+        for place in range(row.base + 1, view[4] + 1):
+            entry, term = self.settled.get(place, (row.entry_at(place), view[1]))
+            self.test.assertEqual(row.entry_at(place), entry)
+            self.settled[place] = (entry, min(term, view[1]))
+
+    def hold_settled(self, chair_term, row):
+        for place, (entry, term) in self.settled.items():
+            if term < chair_term and place > row.base:
+                self.test.assertLessEqual(place, row.last())
+                self.test.assertEqual(row.entry_at(place), entry)
+
+    def hold_shelves(self, views):
+        for word, term, vote, chair, settled, done, shelf in views:
+            self.test.assertEqual(settled, done)
+            self.test.assertEqual(shelf, replayed([self.settled[place][0] for place in range(1, done + 1)]))
+
+    def hold_rows(self, rows):
+        for k, one in enumerate(rows):
+            for two in rows[:k]:
+                self.hold_alike(one, two)
+
+    def hold_alike(self, one, two):
+        base = max(one.base, two.base)
+        places = range(base + 1, min(one.last(), two.last()) + 1)
+        same = [place for place in places if one.term_at(place) == two.term_at(place)]
+        for place in range(base + 1, max(same, default=base) + 1):
+            self.test.assertEqual(one.entry_at(place), two.entry_at(place))
+
+    def hold_told(self, views, rows):
+        for h in range(self.number):
+            told = self.witness.row(h)
+            self.test.assertEqual(rows[h].end(), end_of(told))
+            self.test.assertEqual(rows[h].entries(), told[rows[h].base:])
+            if views[h][2] is not None:
+                self.test.assertEqual(views[h][2], self.witness.votes[h, views[h][1]])
