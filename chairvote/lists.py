@@ -39,7 +39,7 @@ def are_alike(one, two, place):
 def led_by(line, row, place):
     # What a row holds behind a place up to which it agrees may still be told on by its chair, so it stays.
     if are_alike(row, line, place):
-        return list(row)
+        return row[:]
     return line[:place]
 
 

@@ -28,3 +28,11 @@ class Rules:
 
     def wins(self, roll, S):
         return wins(roll, S, not self.most)
+
+    def twin(self):
+        like = Rules()
+        like.once = self.once
+        like.best = self.best
+        like.own = self.own
+        like.most = self.most
+        return like

@@ -1,23 +1,9 @@
 """What the whole promises of a hall, held deed by deed against its papers, views and books alone."""
 
+from chairvote.benches import Bench
 from tests.halldeeds import row_of
-from tests.witness import Witness, end_of
-
-
-def replayed(entries):
-    """The shelf, told, to which the asks of these entries lead, each of them done once."""
-    values, answers = {}, {}
-    for term, what in entries:
-        if what[0] == "ask" and what[1:3] not in answers:
-            order, before = what[3], values.get(what[3][1], 0)
-            after, answer = {
-                "put": (order[2], before),
-                "add": (before + order[2], before + order[2]),
-                "swap": (order[-1], 1) if before == order[2] else (before, 0),
-            }[order[0]]
-            values[order[1]], answers[what[1:3]] = after, answer
-    told = tuple(sorted((name, value) for name, value in values.items() if value != 0))
-    return told, tuple(sorted(ask + (answer,) for ask, answer in answers.items()))
+from tests.outcomes import Outcomes, replayed
+from tests.witness import end_of
 
 
 class Promise:
@@ -27,12 +13,10 @@ class Promise:
         self.test = test
         self.hall = hall
         self.number = number
-        self.witness = Witness(S)
-        self.chairs = {}
+        self.bench = Bench(S)
+        self.outcomes = Outcomes(test)
+        self.taken = []
         self.settled = {}
-        self.answered = {}
-        self.looks = {}
-        self.out = 0
 
     def hold(self):
         """Called behind each deed, so that chairs are met while they keep what they settled."""
@@ -46,27 +30,18 @@ class Promise:
 
     def read_papers(self):
         papers = self.hall.papers()
-        test = self.test
-        test.assertEqual(papers[:len(self.witness.taken)], self.witness.taken)
-        for paper in papers[len(self.witness.taken):]:
-            self.witness.take(paper)
-            if paper[0] == "chair":
-                test.assertNotIn(paper[2], self.chairs)
-                self.chairs[paper[2]] = paper[1]
-            if paper[0] == "answer":
-                test.assertEqual(self.answered.setdefault(paper[2:4], paper[5]), paper[5])
-                self.out = max(self.out, paper[4])
-            if paper[0] == "look":
-                self.looks[paper[1:5]] = self.out
-            if paper[0] == "seen":
-                test.assertGreaterEqual(paper[5], self.looks.pop(paper[1:5]))
-                self.out = max(self.out, paper[5])
-        test.assertEqual(self.hall.answers(), [paper for paper in papers if paper[0] in ("answer", "seen")])
+        self.test.assertEqual(papers[:len(self.taken)], self.taken)
+        for paper in papers[len(self.taken):]:
+            self.bench.take(paper)
+            self.test.assertIsNone(self.bench.broken())
+            self.outcomes.hold(paper)
+        self.taken = papers
+        self.test.assertEqual(self.hall.answers(), [paper for paper in papers if paper[0] in ("answer", "seen")])
 
     def hold_chairs(self, views, rows):
         for h, view in enumerate(views):
             if view[0] == "chairs":
-                self.test.assertEqual(self.chairs[view[1]], h)
+                self.test.assertEqual(self.outcomes.chairs[view[1]], h)
                 self.note_settled(view, rows[h])
         for h, view in enumerate(views):
             if view[0] == "chairs":
@@ -103,8 +78,8 @@ class Promise:
 
     def hold_told(self, views, rows):
         for h in range(self.number):
-            told = self.witness.row(h)
+            told = self.bench.row_of(h)
             self.test.assertEqual(rows[h].end(), end_of(told))
             self.test.assertEqual(rows[h].entries(), told[rows[h].base:])
             if views[h][2] is not None:
-                self.test.assertEqual(views[h][2], self.witness.votes[h, views[h][1]])
+                self.test.assertEqual(self.bench.votes_of(h, views[h][1]), 1 << views[h][2])

@@ -4,11 +4,11 @@ import itertools
 import unittest
 
 from chairvote.ballots import Ballots
-from chairvote.lists import end_of, led_by, roll_of
+from chairvote.benches import Bench
+from chairvote.lists import end_of, roll_of
 from chairvote.rules import Rules
 from tests.halldeeds import Drawer, drawn_halls
 from tests.making import GREAT_TERM, whole_state
-from tests.witness import Witness
 
 ROLL = (7, 0)
 END = (2, 5)
@@ -221,9 +221,9 @@ class HallTest(unittest.TestCase):
             self.assert_all_may_be(hall.papers(), S)
 
     def assert_all_may_be(self, papers, S):
-        ballots, witness = ballots_of(), Witness(S)
+        ballots, bench = ballots_of(), Bench(S)
         for paper in papers:
-            row = list(witness.row(paper[1]))
+            row = bench.row_of(paper[1])
             if paper[0] == "vote":
                 self.assertTrue(ballots.may_vote(*paper[1:], end_of(row)))
                 ballots.cast(*paper[1:], end_of(row))
@@ -234,9 +234,7 @@ class HallTest(unittest.TestCase):
                 ballots.reach(*paper[1:3])
             else:
                 self.assertTrue(ballots.stands(paper[1]))
-            witness.take(paper)
-            if paper[0] == "told":
-                self.assertEqual(led_by(witness.lines[paper[2]].row, row, paper[3]), witness.row(paper[1]))
+            bench.take(paper)
 
 
 class ApartTest(unittest.TestCase):

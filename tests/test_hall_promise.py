@@ -5,7 +5,8 @@ import unittest
 
 from chairvote.halls import Hall
 from tests.halldeeds import Drawer, carry_all, chaired_hall, drawn_halls, hall_state, lose_all
-from tests.promise import Promise, replayed
+from tests.outcomes import replayed
+from tests.promise import Promise
 
 TRIALS = 108
 DEEDS = 260

@@ -1,170 +1,212 @@
-"""Follows the papers of several hands by the told rules, and says which of them could not be."""
+"""Says of each paper whether a bench takes it, by reading anew, each time, all papers that were taken before it."""
 
-from chairvote.rolls import hands_of, wins
-from chairvote.shelves import Shelf
+from tests.outcomes import replayed
+
+KINDS = {
+    "vote": ("hand", "term", "whom"), "chair": ("hand", "term", "voters"), "write": ("term", "place", "what"),
+    "beat": ("term", "beat"), "told": ("hand", "term", "place", "beat"), "settle": ("term", "place", "hands"),
+    "answer": ("term", "who", "number", "place", "answer"), "look": ("term", "beat", "who", "name", "place"),
+    "seen": ("term", "beat", "who", "name", "place", "value", "hands"),
+}
 
 
 def end_of(row):
     return (row[-1][0] if row else 0, len(row))
 
 
-def shelf_at(row, place):
-    """The shelf behind a place, and the answer of the ask that stands there."""
-    shelf, answer = Shelf(), None
-    for term, what in row[:place]:
-        answer = shelf.do(*what[1:]) if what[0] == "ask" else None
-    return shelf, answer
+def is_in(hand, S):
+    return S >> hand & 1 == 1
 
 
-class Line:
-    """What is known of one term that has a chair."""
+class Story:
+    """Rows and lines, as a list of papers that were taken leads to them."""
 
-    def __init__(self, hand, row):
-        self.hand = hand
-        self.row = list(row)
-        self.beat = 0
-        self.mark = 0
-        self.looks = {}
-
-
-class Witness:
-    def __init__(self, S):
-        self.first = (S, 0)
-        self.terms = {}
-        self.rows = {}
-        self.votes = {}
-        self.asked = {}
-        self.lines = {}
-        self.told_places = {}
-        self.told_beats = {}
-        self.taken = []
+    def __init__(self, papers):
+        self.rows, self.lines, self.chairs = {}, {}, {}
+        for word, *parts in papers:
+            if word == "chair" and parts[1] not in self.chairs:
+                self.chairs[parts[1]] = parts[0]
+                self.lines[parts[1]] = list(self.row(parts[0]))
+            if word == "write":
+                self.lines[parts[0]].append((parts[0], parts[2]))
+                self.row(self.chairs[parts[0]]).append((parts[0], parts[2]))
+            if word == "told":
+                row, line = self.row(parts[0]), self.lines[parts[1]]
+                if row[:parts[2]] != line[:parts[2]]:
+                    row[:] = line[:parts[2]]
 
     def row(self, hand):
         return self.rows.setdefault(hand, [])
 
-    def roll_of(self, row):
-        rolls = [(place, what[1:]) for place, (term, what) in enumerate(row, start=1) if what[0] == "roll"]
-        return rolls[-1] if rolls else (0, self.first)
 
-    def mark_up_to(self, term):
-        return max([line.mark for other, line in self.lines.items() if other <= term], default=0)
+class Witness:
+    def __init__(self, S, text="once best own most"):
+        self.first = (S, 0)
+        self.words = text.split(" ")
+        self.taken = []
+        self.broken = None
+        self.story = Story([])
 
     def take(self, paper):
-        term = paper[2] if paper[0] in ("vote", "chair", "told") else paper[1]
-        number = len(self.taken)
-        assert term >= 1, (number, paper)
-        assert getattr(self, "may_" + paper[0])(*paper[1:]), (number, paper)
+        """True where a bench takes the paper."""
+        if self.broken or not self.may(paper):
+            return False
+        if paper[0] == "chair" and paper[2] in self.story.chairs:
+            self.broken = ("chairs", paper[2])
         self.taken.append(paper)
-        if paper[0] in ("chair", "settle"):
-            self.assert_nothing_lost()
+        self.story = Story(self.taken)
+        if paper[0] in ("chair", "settle") and not self.broken:
+            lost = [term for term in self.story.lines if self.has_lost(term)]
+            self.broken = ("lost", min(lost)) if lost else None
+        return True
+
+    def has_lost(self, term):
+        lines = self.story.lines
+        marks = [(other, self.mark(other)) for other in lines if other < term]
+        return any(lines[term][:mark] != lines[other][:mark] for other, mark in marks)
+
+    def may(self, paper):
+        names = KINDS.get(paper[0]) if paper else None
+        if names is None or len(names) != len(paper) - 1:
+            return False
+        parts = dict(zip(names, paper[1:]))
+        if parts["term"] < 1:
+            return False
+        return all(getattr(self, "asked_of_" + paper[0])(**parts))
+
+    def papers(self, word, **parts):
+        """Those of this kind that were taken, with these parts, each as a dict."""
+        of_kind = [dict(zip(KINDS[word], paper[1:])) for paper in self.taken if paper[0] == word]
+        return [paper for paper in of_kind if all(paper[name] == part for name, part in parts.items())]
+
+    def term(self, hand):
+        terms = [paper[2] for paper in self.taken if paper[0] in ("vote", "told") and paper[1] == hand]
+        return terms[-1] if terms else 0
+
+    def votes(self, hand, term):
+        return [paper["whom"] for paper in self.papers("vote", hand=hand, term=term)]
+
+    def asked_with(self, hand, term):
+        paper = ("vote", hand, term, hand)
+        if paper not in self.taken:
+            return None
+        return end_of(Story(self.taken[:self.taken.index(paper)]).row(hand))
+
+    def mark(self, term):
+        return max((paper["place"] for paper in self.papers("settle", term=term)), default=0)
+
+    def mark_up_to(self, term):
+        return max((self.mark(other) for other in self.story.lines if other <= term), default=0)
+
+    def roll(self, entries):
+        rolls = [(place, what[1:]) for place, (term, what) in enumerate(entries, 1) if what[0] == "roll"]
+        return rolls[-1] if rolls else (0, self.first)
+
+    def wins(self, roll, S):
+        for part in roll:
+            size = part.bit_count()
+            have = (part & S).bit_count()
+            if part and (have * 2 < size or (have * 2 == size and self.words[3] == "most")):
+                return False
+        return True
 
     def stands(self, term):
-        return term in self.lines and self.terms.get(self.lines[term].hand, 0) == term
+        return term in self.story.chairs and self.term(self.story.chairs[term]) == term
 
-    def may_vote(self, hand, term, whom):
-        if term < self.terms.get(hand, 0) or (hand, term) in self.votes:
-            return False
-        end = end_of(self.row(hand))
-        if hand == whom:
-            if term <= self.terms.get(hand, 0):
-                return False
-            self.asked[hand, term] = end
-        elif (whom, term) not in self.asked or self.asked[whom, term] < end:
-            return False
-        self.votes[hand, term] = whom
-        self.terms[hand] = term
-        return True
+    def told(self, hand, term, part, least):
+        return [1 for paper in self.papers("told", hand=hand, term=term) if paper[part] >= least] != []
 
-    def may_chair(self, hand, term, voters):
-        row = self.row(hand)
-        if self.terms.get(hand, 0) != term or self.asked.get((hand, term)) != end_of(row) or term in self.lines:
-            return False
-        self.lines[term] = Line(hand, row)
-        have_voted = all(self.votes.get((voter, term)) == hand for voter in hands_of(voters))
-        return have_voted and wins(self.roll_of(row)[1], voters)
+    def all_told(self, term, hands, part, least):
+        chair = self.story.chairs[term]
+        return all(h == chair or self.told(h, term, part, least) for h in range(60) if is_in(h, hands))
 
-    def may_write(self, term, place, what):
-        if not self.stands(term):
-            return False
-        line = self.lines[term]
-        if place != len(line.row) + 1 or (what == ("start",)) != (term not in [entry[0] for entry in line.row]):
-            return False
+    def asked_of_vote(self, hand, term, whom):
+        yield term >= self.term(hand)
+        yield (whom not in self.votes(hand, term)) if self.words[0] == "free" else not self.votes(hand, term)
+        if whom == hand:
+            yield term > self.term(hand)
+        else:
+            yield self.asked_with(whom, term) is not None
+            yield self.words[1] == "any" or self.asked_with(whom, term) >= end_of(self.story.row(hand))
+
+    def asked_of_chair(self, hand, term, voters):
+        yield self.term(hand) == term
+        yield self.asked_with(hand, term) == end_of(self.story.row(hand))
+        yield all(hand in self.votes(voter, term) for voter in range(60) if is_in(voter, voters))
+        yield self.wins(self.roll(self.story.row(hand))[1], voters)
+        yield self.story.chairs.get(term) != hand
+
+    def asked_of_write(self, term, place, what):
+        yield self.stands(term)
+        line = self.story.lines[term]
+        yield place == len(line) + 1
+        yield (what == ("start",)) == (term not in [entry[0] for entry in line])
         if what[0] == "roll":
-            at, (one, two) = self.roll_of(line.row)
-            if at > self.mark_up_to(term):
-                return False
-            if two != 0 and what != ("roll", two, 0):
-                return False
-            if two == 0 and (what[1] != one or what[2] == 0):
-                return False
-        line.row.append((term, what))
-        self.row(line.hand).append((term, what))
-        return True
+            at, (one, two) = self.roll(line)
+            yield at <= self.mark_up_to(term)
+            yield what == ("roll", two, 0) if two else (what[1] == one and what[2] != 0)
 
-    def may_beat(self, term, beat):
-        if not self.stands(term) or beat != self.lines[term].beat + 1:
-            return False
-        self.lines[term].beat = beat
-        return True
+    def asked_of_beat(self, term, beat):
+        yield self.stands(term)
+        yield beat == len(self.papers("beat", term=term)) + 1
 
-    def may_told(self, hand, term, place, beat):
-        if term not in self.lines or self.lines[term].hand == hand or term < self.terms.get(hand, 0):
-            return False
-        line = self.lines[term]
-        if not 0 <= place <= len(line.row) or not 0 <= beat <= line.beat:
-            return False
-        self.terms[hand] = term
-        if self.row(hand)[:place] != line.row[:place]:
-            self.rows[hand] = line.row[:place]
-        self.told_places[hand, term] = max(place, self.told_places.get((hand, term), 0))
-        self.told_beats[hand, term] = max(beat, self.told_beats.get((hand, term), 0))
-        return True
+    def asked_of_told(self, hand, term, place, beat):
+        yield term in self.story.chairs and self.story.chairs[term] != hand
+        yield term >= self.term(hand)
+        yield place in range(len(self.story.lines[term]) + 1)
+        yield beat in range(len(self.papers("beat", term=term)) + 1)
 
-    def may_settle(self, term, place, hands):
-        if not self.stands(term):
-            return False
-        line = self.lines[term]
-        if not line.mark < place <= len(line.row) or line.row[place - 1][0] != term:
-            return False
-        line.mark = place
-        have = all(h == line.hand or self.told_places.get((h, term), -1) >= place for h in hands_of(hands))
-        return have and wins(self.roll_of(line.row)[1], hands)
+    def asked_of_settle(self, term, place, hands):
+        yield self.stands(term)
+        line = self.story.lines[term]
+        yield self.mark(term) < place <= len(line)
+        yield self.words[2] == "old" or line[place - 1][0] == term
+        yield self.all_told(term, hands, "place", place)
+        yield self.wins(self.roll(line)[1], hands)
 
-    def may_answer(self, term, who, number, place, answer):
-        if not self.stands(term):
-            return False
-        line = self.lines[term]
-        if not 1 <= place <= min(self.mark_up_to(term), len(line.row)):
-            return False
-        return line.row[place - 1][1][:3] == ("ask", who, number) and shelf_at(line.row, place)[1] == answer
+    def asked_of_answer(self, term, who, number, place, answer):
+        yield self.stands(term)
+        line = self.story.lines[term]
+        yield 1 <= place <= self.mark_up_to(term)
+        yield place <= len(line)
+        yield line[place - 1][1][:3] == ("ask", who, number)
+        yield (who, number, answer) in replayed(line[:place])[1]
 
-    def may_look(self, term, beat, who, name, place):
-        if not self.stands(term):
-            return False
-        line = self.lines[term]
-        places = [at for at, entry in enumerate(line.row, start=1) if entry[0] == term]
-        if beat != line.beat or beat < 1 or beat in line.looks or not places:
-            return False
-        if [1 for (hand, other), told in self.told_beats.items() if other == term and told >= beat]:
-            return False
-        line.looks[beat] = (who, name, place)
-        return place == max(line.mark, places[0])
+    def asked_of_look(self, term, beat, who, name, place):
+        yield self.stands(term)
+        yield beat == len(self.papers("beat", term=term)) and beat >= 1
+        yield not self.papers("told", term=term, beat=beat)
+        yield not self.papers("look", term=term, beat=beat)
+        places = [k for k, entry in enumerate(self.story.lines[term], 1) if entry[0] == term]
+        yield places != []
+        yield place == max(self.mark(term), min(places))
 
-    def may_seen(self, term, beat, who, name, place, value, hands):
-        if not self.stands(term):
-            return False
-        line = self.lines[term]
-        look = line.looks.get(beat)
-        if look is None or look[:2] != (who, name):
-            return False
-        line.looks[beat] = None
-        if not look[2] <= place <= min(self.mark_up_to(term), len(line.row)):
-            return False
-        heard = all(h == line.hand or self.told_beats.get((h, term), -1) >= beat for h in hands_of(hands))
-        return heard and wins(self.roll_of(line.row)[1], hands) and shelf_at(line.row, place)[0].value_of(name) == value
+    def asked_of_seen(self, term, beat, who, name, place, value, hands):
+        yield self.stands(term)
+        line = self.story.lines[term]
+        looks = self.papers("look", term=term, beat=beat, who=who, name=name)
+        yield looks != []
+        yield not self.papers("seen", term=term, beat=beat)
+        yield looks[0]["place"] <= place <= self.mark_up_to(term)
+        yield place <= len(line)
+        yield self.all_told(term, hands, "beat", beat)
+        yield self.wins(self.roll(line)[1], hands)
+        yield dict(replayed(line[:place])[0]).get(name, 0) == value
 
-    def assert_nothing_lost(self):
-        for lesser, one in self.lines.items():
-            for greater, two in self.lines.items():
-                if lesser < greater:
-                    assert two.row[:one.mark] == one.row[:one.mark], ("lost", greater)
+    def greatest_place(self, hand, term):
+        return max(paper["place"] for paper in self.papers("told", hand=hand, term=term))
+
+    def world(self):
+        hands = sorted({paper[1] for paper in self.taken if paper[0] in ("vote", "told")})
+        votes = sorted({paper[1:3] for paper in self.taken if paper[0] == "vote"})
+        tolds = sorted({paper[1:3] for paper in self.taken if paper[0] == "told"})
+        places = [key + (self.greatest_place(*key),) for key in tolds]
+        return (
+            tuple((hand, self.term(hand)) for hand in hands),
+            tuple(key + (sum(1 << whom for whom in self.votes(*key)),) for key in votes),
+            tuple(key + (self.asked_with(*key),) for key in votes if self.asked_with(*key) is not None),
+            tuple((hand, tuple(row)) for hand, row in sorted(self.story.rows.items()) if row),
+            tuple((term, hand, tuple(self.story.lines[term])) for term, hand in sorted(self.story.chairs.items())),
+            tuple(place for place in places if place[2] > 0),
+            tuple((term, self.mark(term)) for term in sorted(self.story.chairs) if self.mark(term) > 0),
+        )
