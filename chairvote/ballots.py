@@ -72,10 +72,9 @@ class Ballots:
         return sorted(self.seated.items())
 
     def known(self):
-        terms = [pair for pair in sorted(self.terms.items()) if pair[1] != 0]
         votes = [key + (S,) for key, S in sorted(self.votes.items())]
         askings = [key + (end,) for key, end in sorted(self.askings.items())]
-        return (tuple(terms), tuple(votes), tuple(askings))
+        return (tuple(sorted(self.terms.items())), tuple(votes), tuple(askings))
 
     def twin(self):
         like = Ballots(self.rules)

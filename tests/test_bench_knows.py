@@ -268,6 +268,16 @@ class ApartTest(BenchTest):
             self.assertEqual(told_of(twin), told)
             self.refuses(("write", 1, 3, ask(2)))
 
+    def test_a_twin_knows_which_looks_were_seen(self):
+        self.begin(*settled_line(), ("beat", 1, 2), ("look", 1, 2, 5, "a", 2), ("told", 1, 1, 2, 2))
+        first, count, seen = self.bench, self.count, ("seen", 1, 2, 5, "a", 2, 1, 3)
+        self.bench = first.twin()
+        self.takes(seen)
+        self.bench = self.bench.twin()
+        self.refuses(seen)
+        self.bench, self.count = first, count
+        self.takes(seen)
+
     def test_a_twin_counts_on_from_where_it_was_made(self):
         self.begin(*settled_line())
         first, self.bench = self.bench, self.bench.twin()

@@ -49,6 +49,7 @@ class AnswerTest(BenchTest):
     def test_places_at_which_there_is_no_ask(self):
         self.line()
         self.refuses(*[("answer", 1, 8, 0, place, 0) for place in (-6, -5, -1, 0, 1, 7, 8, GREAT)])
+        self.refuses(*[("answer", 1, 8, 4, place, answer) for place in (0, -6, 7) for answer in (GREAT, 2 + GREAT)])
         self.begin(*elected(0, 1, 1), *written(1, 1, START, ("roll", 7, 3)), ("told", 1, 1, 2, 0), ("settle", 1, 2, 3))
         self.refuses(("answer", 1, 7, 3, 2, 0), ("answer", 1, 7, 3, 1, 0))
 

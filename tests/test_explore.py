@@ -1,5 +1,6 @@
 """Small worlds gone through by moves: closed, broken and more; their rows, and the caps."""
 
+import inspect
 import itertools
 import unittest
 
@@ -155,6 +156,7 @@ class CapTest(unittest.TestCase):
             self.assertEqual(explore(*numbers, text, nearer - 1), ("more", [], []))
 
     def test_the_cap_is_two_hundred_where_none_is_told(self):
+        self.assertEqual(inspect.signature(explore).parameters["cap"].default, 200)
         self.assertEqual(explore(2, 2, 0), ("more", [], []))
         self.assertEqual(explore(2, 2, 0, TOLD_RULES, 200), ("more", [], []))
         self.assertEqual(explore(2, 2, 0, TOLD_RULES, 206)[0], "closed")

@@ -75,6 +75,13 @@ class WorldTest(BenchTest):
             ((great, 9, ((great, START),)),), ((3, great, 1), (8, great, 1)), (),
         ))
 
+    def test_marks_and_lines_of_a_lesser_term_that_came_later(self):
+        self.begin(*elected(0, 1, 1), *written(1, 1, START, ask(1)), ("told", 1, 1, 2, 0), *elected(1, 2, 2))
+        self.takes(("write", 2, 3, START), ("told", 2, 2, 3, 0), ("settle", 2, 3, 6), ("settle", 1, 2, 3))
+        self.assertEqual(self.bench.world()[6], ((1, 2), (2, 3)))
+        self.begin(*elected(1, 9, 0), *elected(2, 4, 3), S=15, text="once best own half")
+        self.assertEqual(self.bench.world()[4], ((4, 2, ()), (9, 1, ())))
+
     def test_several_votes_of_a_hand_in_a_term(self):
         self.begin(("vote", 2, 1, 2), ("vote", 0, 1, 0), ("vote", 1, 1, 0), ("vote", 1, 1, 2), text="free any old half")
         self.assertEqual(self.bench.world()[1], ((0, 1, 1), (1, 1, 5), (2, 1, 4)))
@@ -204,6 +211,18 @@ class MovesTest(unittest.TestCase):
         ])
         bench = taken_by(Bench(7), elected(2, 1, 1) + written(1, 1, START) + [("told", 1, 1, 1, 0)])
         self.assert_moves(bench, 2, 1, 2, [("vote", 0, 1, 0)])
+
+    def test_a_chair_of_a_greater_term_than_the_number(self):
+        bench = taken_by(Bench(7), [("vote", 0, 2, 0), ("vote", 1, 2, 0)])
+        self.assert_moves(bench, 3, 1, 0, [("vote", 2, 1, 2)])
+        self.assert_moves(bench, 3, 2, 0, [("vote", 2, 1, 2), ("vote", 2, 2, 0), ("vote", 2, 2, 2), ("chair", 0, 2, 3)])
+
+    def test_tolds_of_each_term_count_for_its_settles_alone(self):
+        bench = taken_by(Bench(7), elected(0, 1, 1) + written(1, 1, START, ask(1)))
+        taken_by(bench, [("told", 1, 1, 2, 0), ("told", 2, 1, 1, 0)] + elected(1, 2, 2) + written(2, 3, START))
+        bench.take(("told", 2, 2, 3, 0))
+        settles = [paper for paper in moves(bench, 3, 2, 0) if paper[0] == "settle"]
+        self.assertEqual(sorted(settles), [("settle", 1, 1, 7), ("settle", 1, 2, 3), ("settle", 2, 3, 6)])
 
     def test_voters_and_hands_beyond_the_number_are_left_out(self):
         bench = taken_by(Bench(7), [("vote", 0, 1, 0), ("vote", 1, 1, 0), ("vote", 2, 1, 0), ("vote", 3, 1, 0)])
